@@ -1,0 +1,1 @@
+"""Gentlebends: the smoothest rows through points, with papers, in exact numbers."""

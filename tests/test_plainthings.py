@@ -1,0 +1,185 @@
+"""Any plain thing: what is asked of things by chance, against a second telling of the kinds of [3] and of [25]."""
+
+import math
+import random
+import unittest
+
+from gentlebends.asking import ask_task
+from gentlebends.errors import NoPaper, NoTask
+from gentlebends.fractions import is_fraction
+from gentlebends.leastchecker import lets_least
+from gentlebends.polys import is_poly
+from gentlebends.rows import is_row
+from gentlebends.settling import settled_by
+from helpers import ODD_THINGS, Asking, fraction, paths_in, poly_value, q, replaced, row, task, thing_at, trimmed
+
+
+def number(thing):
+    return type(thing) is int
+
+
+def own_fraction(thing):
+    if type(thing) is not tuple or len(thing) != 2:
+        return False
+    return number(thing[0]) and number(thing[1]) and thing[1] >= 1 and math.gcd(*thing) == 1
+
+
+def own_poly(thing):
+    if type(thing) is not tuple or not all(own_fraction(one) for one in thing):
+        return False
+    return len(thing) <= 4 and trimmed([q(one) for one in thing]) == thing
+
+
+def own_row(thing):
+    if type(thing) is not tuple or len(thing) != 2:
+        return False
+    cuts, pieces = thing
+    if type(cuts) is not tuple or type(pieces) is not tuple or len(cuts) < 2 or len(pieces) != len(cuts) - 1:
+        return False
+    if not all(own_fraction(cut) for cut in cuts) or not all(own_poly(piece) for piece in pieces):
+        return False
+    places = [q(cut) for cut in cuts]
+    if sorted(set(places)) != places:
+        return False
+    ends = [poly_value(pieces[k], places[k + 1] - places[k]) for k in range(len(pieces))]
+    return all(ends[k] == poly_value(pieces[k + 1], 0) for k in range(len(pieces) - 1))
+
+
+def own_wish(thing, words):
+    if type(thing) is not tuple or not thing or type(thing[0]) is not str or thing[0] not in words:
+        return False
+    many = {"free": 0, "near": 2}.get(thing[0], 1)
+    if len(thing) != many + 1 or not all(own_fraction(one) for one in thing[1:]):
+        return False
+    return thing[0] != "near" or thing[2][0] > 0
+
+
+def own_point(sort, thing):
+    if type(thing) is not tuple or len(thing) != 3 or not own_fraction(thing[0]):
+        return False
+    slopes = ("held", "least", "most", "free") if sort == 3 else ("free",)
+    return own_wish(thing[1], ("held", "near", "least", "most", "free")) and own_wish(thing[2], slopes)
+
+
+def own_fault(thing):
+    """None or the pair of [25]."""
+    if type(thing) is not tuple or len(thing) != 4:
+        return ("shape", -1)
+    sort, turn, price, points = thing
+    kinds = number(sort) and sort in (1, 3) and (turn is None or own_fraction(turn)) and own_fraction(price)
+    if not kinds or price[0] <= 0 or type(points) is not tuple or not 2 <= len(points) <= 6:
+        return ("shape", -1)
+    for k, point in enumerate(points):
+        if not own_point(sort, point):
+            return ("point", k)
+    places = [q(point[0]) for point in points]
+    for k in range(1, len(places)):
+        if places[k] <= places[k - 1]:
+            return ("places", k)
+    if turn is not None and q(turn) <= places[-1] - places[0]:
+        return ("round", -1)
+    told = sum(point[1][0] in ("held", "near") for point in points)
+    sloped = any(point[2][0] == "held" for point in points)
+    due = 2 if sort == 3 and turn is None and not sloped else 1
+    return ("loose", -1) if told < due else None
+
+
+def odd_thing(chance, depth=3):
+    """A plain thing by chance."""
+    kind = chance.randrange(8)
+    if kind < 2 or depth == 0:
+        return chance.choice(ODD_THINGS)
+    if kind == 2:
+        return fraction(chance)
+    if kind == 3:
+        return chance.choice((("held", fraction(chance)), ("near", fraction(chance), fraction(chance)), ("free",),
+                              ("least", fraction(chance)), ("most", fraction(chance))))
+    if kind == 4:
+        return chance.randint(-3, 3)
+    if kind == 5:
+        return {chance.choice(("a", 0, 1, (1, 1), None)): odd_thing(chance, depth - 1)}
+    parts = [odd_thing(chance, depth - 1) for k in range(chance.randint(0, 4))]
+    return tuple(parts) if kind == 6 else parts
+
+
+def changed(chance, thing):
+    """A thing with one thing within it exchanged: by chance, or by one that stands elsewhere in it."""
+    paths = list(paths_in(thing))
+    path = chance.choice(paths)
+    kind = chance.randrange(4)
+    if kind == 0:
+        return replaced(thing, path, odd_thing(chance))
+    if kind == 1:
+        return replaced(thing, path, thing_at(thing, chance.choice(paths)))
+    numbers = [path for path in paths if number(thing_at(thing, path))]
+    path = chance.choice(numbers) if numbers else path
+    return replaced(thing, path, chance.choice((0, 1, 2, -1, 3, True, False)))
+
+
+def with_fewer_told(chance, thing):
+    """A thing with bounds in the place of held and near wishes, here and there."""
+    for path in list(paths_in(thing)):
+        if len(path) == 3 and chance.random() < 0.6:
+            here = thing_at(thing, path)
+            if path[2] > 0 and type(here) is tuple and here and here[0] in ("held", "near"):
+                thing = replaced(thing, path, (chance.choice(("least", "most")), here[1] if len(here) > 1 else None))
+    return thing
+
+
+class PlainThings(Asking, unittest.TestCase):
+
+    def test_fractions_polys_rows(self):
+        chance = random.Random(140)
+        lets = 0
+        for time in range(3000):
+            thing = odd_thing(chance) if time % 3 == 0 else changed(chance, row(chance, chance.randint(1, 3), 0, 1))
+            for part in (thing, *(thing if type(thing) in (tuple, list) else ())):
+                self.tells(own_fraction(part), is_fraction, part)
+                self.tells(own_poly(part), is_poly, part)
+                self.tells(own_row(part), is_row, part)
+                lets += own_row(part)
+        self.assertGreater(lets, 100)
+
+    def test_tasks(self):
+        chance = random.Random(141)
+        words = set()
+        for time in range(4000):
+            thing = task(chance, chance.choice((1, 3)), chance.random() < 0.5, chance.randint(2, 4), 1)
+            for step in range(chance.randint(0, 3)):
+                thing = changed(chance, thing)
+            if time % 5 == 0:
+                thing = with_fewer_told(chance, thing)
+            due = own_fault(thing)
+            words.add(due and due[0])
+            if due is None:
+                self.tells(True, ask_task, thing)
+            else:
+                self.refuses(NoTask, {"word": due[0], "number": due[1]}, ask_task, thing)
+        self.assertEqual(words, {None, "shape", "point", "places", "round", "loose"})
+
+    def test_papers(self):
+        chance = random.Random(142)
+        for time in range(1500):
+            sort, turn = chance.choice((1, 3)), chance.random() < 0.5
+            some = task(chance, sort, turn, chance.randint(2, 3), 1, ("held", "near", "free"))
+            paper = settled_by(some, ())
+            thing = changed(chance, paper)
+            if self.is_own_shape(some, thing) and thing == paper:
+                self.tells(True, lets_least, some, thing)
+                continue
+            with self.assertRaises(NoPaper) as caught:
+                lets_least(some, thing)
+            told = (caught.exception.word, caught.exception.number)
+            self.assertEqual(told == ("shape", -1), not self.is_own_shape(some, thing))
+
+    def is_own_shape(self, some, thing):
+        if type(thing) is not tuple or len(thing) != 3 or type(thing[0]) is not str or thing[0] != "least":
+            return False
+        prices = thing[2]
+        if not own_row(thing[1]) or type(prices) is not tuple or len(prices) != len(some[3]):
+            return False
+        return all(type(pair) is tuple and len(pair) == 2 and all(own_fraction(one) for one in pair) for pair in prices)
+
+
+if __name__ == "__main__":
+    unittest.main()
