@@ -126,7 +126,12 @@ def row_of_unknowns(task, unknowns):
     return (places_of(task), tuple(pieces))
 
 
+def paper_of_unknowns(task, unknowns):
+    """The ROW with these values, by sort 3 values and slopes, at the points, with its prices, as a paper."""
+    row = row_of_unknowns(task, unknowns)
+    return ("least", row, prices_of(task, row))
+
+
 def settled_by(task, tight):
     """The paper of a TASK SETTLED by a rising tuple of bounds' numbers."""
-    row = row_of_unknowns(task, settled_unknowns(task, tight))
-    return ("least", row, prices_of(task, row))
+    return paper_of_unknowns(task, settled_unknowns(task, tight))

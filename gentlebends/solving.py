@@ -37,14 +37,22 @@ def cleared_grid(grid, column, last):
     return [line if k == column else cleared_line(line, chosen, column, last) for k, line in enumerate(lines)]
 
 
+def whole_answer(grid, many):
+    """The one answer for so many unknowns as whole numbers over one above nought; a line's last number is its right."""
+    lines = list(grid)
+    last = 1
+    for column in range(many):
+        lines = cleared_grid(lines, column, last)
+        last = lines[column][column]
+    if any(line[many] != 0 for line in lines[many:]):
+        raise NoOne("there is no answer")
+    # Each step makes the pivots ahead of it its own pivot: so one number stands below all unknowns.
+    sign = 1 if last > 0 else -1
+    return ([sign * lines[k][many] for k in range(many)], sign * last)
+
+
 def solved_by(rows, rights):
     """The one tuple of FRACTIONs by which each row's products, summed, are its right."""
     grid = [whole_line([*row, right]) for row, right in zip(rows, rights)]
-    many = len(rows[0])
-    last = 1
-    for column in range(many):
-        grid = cleared_grid(grid, column, last)
-        last = grid[column][column]
-    if any(line[many] != 0 for line in grid[many:]):
-        raise NoOne("there is no answer")
-    return tuple(fraction_of(grid[k][many], grid[k][k]) for k in range(many))
+    numbers, below = whole_answer(grid, len(rows[0]))
+    return tuple(fraction_of(number, below) for number in numbers)

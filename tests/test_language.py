@@ -193,6 +193,13 @@ class Interface(unittest.TestCase):
         "leastchecker": "lets_least:2",
         "solving": "solved_by:2",
         "settling": "settled_by:2",
+        "smoothing": "smoothest_through:3 near_paper:1",
+        "boundlists": "bounds_of:1 how_many_bounds:1 binding_of:2 priced_of:2",
+        "leastpapers": "least_paper_of:1",
+        "wishes": "let_go:2 held_fast:2 wish_moved:4",
+        "trading": "toll_of:2 traded_by:2",
+        "shaping": "ask_shaped:1 has_shape:2 shaped_cost:2",
+        "shapechecker": "lets_shaped:2",
     }
 
     def test_names_and_arguments(self):
@@ -205,16 +212,17 @@ class Interface(unittest.TestCase):
                 self.assertEqual(len(functions[name].args.args), int(many), name)
                 self.assertEqual(functions[name].args.defaults, [])
 
-    def test_checker_neither_solves_nor_seeks(self):
+    def test_checkers_neither_solve_nor_seek(self):
         found = {path.stem: tree for path, tree in trees()}
-        seen = set()
-        left = ["leastchecker"]
-        while left:
-            name = left.pop()
-            if name not in seen:
-                seen.add(name)
-                left += [node.module.split(".")[1] for node in found[name].body if isinstance(node, ast.ImportFrom)]
-        self.assertFalse(seen & {"solving", "settling"})
+        for checker in ("leastchecker", "shapechecker"):
+            seen = set()
+            left = [checker]
+            while left:
+                name = left.pop()
+                if name not in seen:
+                    seen.add(name)
+                    left += [node.module.split(".")[1] for node in found[name].body if isinstance(node, ast.ImportFrom)]
+            self.assertFalse(seen & {"solving", "settling", "seeking"})
 
 
 if __name__ == "__main__":

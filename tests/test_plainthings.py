@@ -1,4 +1,4 @@
-"""Any plain thing: what is asked of things by chance, against a second telling of the kinds of [3] and of [25]."""
+"""Any plain thing: what is asked of things by chance, against a second telling of the kinds of [3], [25], [47], [48]."""
 
 import math
 import random
@@ -11,7 +11,11 @@ from gentlebends.leastchecker import lets_least
 from gentlebends.polys import is_poly
 from gentlebends.rows import is_row
 from gentlebends.settling import settled_by
+from gentlebends.shapechecker import lets_shaped
+from gentlebends.shaping import ask_shaped
 from helpers import ODD_THINGS, Asking, fraction, paths_in, poly_value, q, replaced, row, task, thing_at, trimmed
+from shapehelpers import own_papers
+from test_shaping import SHAPES, shaped
 
 
 def number(thing):
@@ -82,6 +86,26 @@ def own_fault(thing):
     sloped = any(point[2][0] == "held" for point in points)
     due = 2 if sort == 3 and turn is None and not sloped else 1
     return ("loose", -1) if told < due else None
+
+
+def own_shaped_fault(thing):
+    """None or the pair of [47]."""
+    if type(thing) is not tuple or len(thing) != 3:
+        return ("shape", -1)
+    shape, price, points = thing
+    if type(shape) is not str or shape not in SHAPES or not own_fraction(price) or price[0] <= 0:
+        return ("shape", -1)
+    if type(points) is not tuple or not 2 <= len(points) <= 6:
+        return ("shape", -1)
+    for k, point in enumerate(points):
+        kinds = type(point) is tuple and len(point) == 3 and all(own_fraction(one) for one in point)
+        if not kinds or point[2][0] <= 0:
+            return ("point", k)
+    places = [q(point[0]) for point in points]
+    for k in range(1, len(places)):
+        if places[k] <= places[k - 1]:
+            return ("places", k)
+    return None
 
 
 def odd_thing(chance, depth=3):
@@ -179,6 +203,47 @@ class PlainThings(Asking, unittest.TestCase):
         if not own_row(thing[1]) or type(prices) is not tuple or len(prices) != len(some[3]):
             return False
         return all(type(pair) is tuple and len(pair) == 2 and all(own_fraction(one) for one in pair) for pair in prices)
+
+    def test_shapeds(self):
+        chance = random.Random(143)
+        words = set()
+        for time in range(3000):
+            thing = shaped(chance, chance.choice(SHAPES), chance.randint(2, 4), 1)
+            for step in range(chance.randint(0, 3)):
+                thing = changed(chance, thing)
+            due = own_shaped_fault(thing)
+            words.add(due and due[0])
+            if due is None:
+                self.tells(True, ask_shaped, thing)
+            else:
+                self.refuses(NoTask, {"word": due[0], "number": due[1]}, ask_shaped, thing)
+        self.assertEqual(words, {None, "shape", "point", "places"})
+
+    def test_shaped_papers(self):
+        chance = random.Random(144)
+        words = set()
+        for time in range(1200):
+            some = shaped(chance, chance.choice(SHAPES), chance.randint(2, 3), 1)
+            paper = own_papers(some)[0]
+            thing = changed(chance, paper)
+            if self.has_own_kinds(some, thing) and thing == paper:
+                self.tells(True, lets_shaped, some, thing)
+                continue
+            with self.assertRaises(NoPaper) as caught:
+                lets_shaped(some, thing)
+            words.add(caught.exception.word)
+            told = (caught.exception.word, caught.exception.number)
+            self.assertEqual(told == ("shape", -1), not self.has_own_kinds(some, thing))
+        self.assertEqual(words, {"shape", "cuts", "kept", "bind", "pull"})
+
+    def has_own_kinds(self, some, thing):
+        if type(thing) is not tuple or len(thing) != 3 or type(thing[0]) is not str or thing[0] != "shaped":
+            return False
+        due = len(some[2]) - (1 if some[0] in ("rising", "falling") else 2)
+        binds = thing[2]
+        if not own_row(thing[1]) or type(binds) is not tuple or len(binds) != due:
+            return False
+        return all(own_fraction(bind) for bind in binds)
 
 
 if __name__ == "__main__":
