@@ -200,6 +200,12 @@ class Interface(unittest.TestCase):
         "trading": "toll_of:2 traded_by:2",
         "shaping": "ask_shaped:1 has_shape:2 shaped_cost:2",
         "shapechecker": "lets_shaped:2",
+        "shapepapers": "shaped_paper_of:1",
+        "knots": "ask_knots:2",
+        "hills": "hills_at:3 hill_row:3",
+        "polar": "polar_at:3",
+        "shares": "row_of_shares:3 shares_of_row:3",
+        "putting": "put_in:4 put_all:4 taken_out:4",
     }
 
     def test_names_and_arguments(self):

@@ -1,12 +1,13 @@
-"""Any plain thing: what is asked of things by chance, against a second telling of the kinds of [3], [25], [47], [48]."""
+"""Any plain thing: what is asked of things by chance, against a second telling of the kinds of [3], [25], [47] to [50]."""
 
 import math
 import random
 import unittest
 
 from gentlebends.asking import ask_task
-from gentlebends.errors import NoPaper, NoTask
+from gentlebends.errors import NoKnots, NoPaper, NoTask
 from gentlebends.fractions import is_fraction
+from gentlebends.knots import ask_knots
 from gentlebends.leastchecker import lets_least
 from gentlebends.polys import is_poly
 from gentlebends.rows import is_row
@@ -14,6 +15,7 @@ from gentlebends.settling import settled_by
 from gentlebends.shapechecker import lets_shaped
 from gentlebends.shaping import ask_shaped
 from helpers import ODD_THINGS, Asking, fraction, paths_in, poly_value, q, replaced, row, task, thing_at, trimmed
+from knothelpers import own_fault as own_knots_fault, some_knots
 from shapehelpers import own_papers
 from test_shaping import SHAPES, shaped
 
@@ -203,6 +205,26 @@ class PlainThings(Asking, unittest.TestCase):
         if not own_row(thing[1]) or type(prices) is not tuple or len(prices) != len(some[3]):
             return False
         return all(type(pair) is tuple and len(pair) == 2 and all(own_fraction(one) for one in pair) for pair in prices)
+
+    def test_knots(self):
+        chance = random.Random(145)
+        words = set()
+        for time in range(3000):
+            degree = chance.choice((1, 2, 3))
+            thing = some_knots(chance, degree)
+            for step in range(chance.randint(0, 2)):
+                thing = changed(chance, thing)
+            is_long = type(thing) is tuple and len(thing) >= 2 * degree + 2
+            if is_long and all(own_fraction(one) for one in thing):
+                due = own_knots_fault(degree, thing)
+            else:
+                due = ("shape", -1)
+            words.add(due and due[0])
+            if due is None:
+                self.tells(True, ask_knots, degree, thing)
+            else:
+                self.refuses(NoKnots, {"word": due[0], "number": due[1]}, ask_knots, degree, thing)
+        self.assertEqual(words, {None, "shape", "falls", "ends", "often"})
 
     def test_shapeds(self):
         chance = random.Random(143)
