@@ -39,11 +39,16 @@ def merged_cuts(one, other):
     return tuple(merged)
 
 
+def with_cuts(row, places):
+    """A ROW with rising places of its stretch as cuts, too."""
+    return recut_row(row, merged_cuts(row[0], places))
+
+
 def with_cut(row, x):
     """A ROW with one cut more, as it is where it has that cut."""
     if is_outside(row, x):
         raise NoPlace(x)
-    return recut_row(row, merged_cuts(row[0], (x,)))
+    return with_cuts(row, (x,))
 
 
 def kept_cuts(row, inner):

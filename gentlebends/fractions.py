@@ -28,6 +28,11 @@ def is_fraction(thing):
     return common_of(abs(n), d) == 1
 
 
+def are_fractions(thing):
+    """Whether any plain thing is a tuple of FRACTIONs, perhaps of none."""
+    return isinstance(thing, tuple) and all(is_fraction(one) for one in thing)
+
+
 def is_above_nought(thing):
     """Whether any plain thing is a FRACTION above nought."""
     return is_fraction(thing) and thing[0] > 0

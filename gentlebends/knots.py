@@ -1,8 +1,8 @@
 """KNOTS: tuples of FRACTIONs that never fall, between which hills stand."""
 
 from gentlebends.errors import NoKnots
+from gentlebends.fractions import are_fractions
 from gentlebends.fractions import is_below
-from gentlebends.fractions import is_fraction
 
 
 def stretch_of(degree, knots):
@@ -37,22 +37,29 @@ def how_many_hills(degree, knots):
     return len(knots) - 1 - degree
 
 
-def ask_knots(degree, thing):
-    """True where any plain thing is KNOTS of a DEGREE."""
-    if not isinstance(thing, tuple) or len(thing) < 2 * degree + 2:
-        raise NoKnots("shape", -1)
-    if not all(is_fraction(knot) for knot in thing):
-        raise NoKnots("shape", -1)
+def knots_fault(degree, thing):
+    """None where any plain thing is KNOTS of a DEGREE, else the first fault: a pair (word, number)."""
+    if not are_fractions(thing) or len(thing) < 2 * degree + 2:
+        return ("shape", -1)
     fall = first_fall(thing)
     if fall is not None:
-        raise NoKnots("falls", fall)
+        return ("falls", fall)
     last = len(thing) - 1 - degree
     for k, number in ((degree, degree), (last - 1, last)):
         if not is_below(thing[k], thing[k + 1]):
-            raise NoKnots("ends", number)
+            return ("ends", number)
     often = first_often(degree, thing)
     if often is not None:
-        raise NoKnots("often", often)
+        return ("often", often)
+    return None
+
+
+def ask_knots(degree, thing):
+    """True where any plain thing is KNOTS of a DEGREE."""
+    fault = knots_fault(degree, thing)
+    if fault is not None:
+        word, number = fault
+        raise NoKnots(word, number)
     return True
 
 

@@ -3,8 +3,8 @@
 from gentlebends.errors import NoCut
 from gentlebends.errors import NoPlace
 from gentlebends.fractions import NOUGHT
+from gentlebends.fractions import are_fractions
 from gentlebends.fractions import is_below
-from gentlebends.fractions import is_fraction
 from gentlebends.fractions import is_rising
 from gentlebends.fractions import minus_by
 from gentlebends.polys import is_poly
@@ -17,9 +17,7 @@ from gentlebends.polys import value_of
 
 def are_cuts(thing):
     """Whether any plain thing is a tuple of two or more FRACTIONs, rising."""
-    if not isinstance(thing, tuple) or len(thing) < 2:
-        return False
-    return all(is_fraction(cut) for cut in thing) and is_rising(thing)
+    return are_fractions(thing) and len(thing) >= 2 and is_rising(thing)
 
 
 def are_pieces(thing, many):
@@ -56,21 +54,29 @@ def row_of_poly(low, high, poly):
     return ((low, high), (moved_poly(poly, low),))
 
 
-def is_outside(row, x):
-    """Whether a place is outside a ROW's stretch."""
-    cuts = row[0]
+def is_beyond(cuts, x):
+    """Whether a place is ahead of the first of rising cuts or behind the last one."""
     return is_below(x, cuts[0]) or is_below(cuts[-1], x)
 
 
-def piece_at(row, x):
-    """The number of the piece behind a place of the stretch, of the last one at the last cut."""
-    if is_outside(row, x):
+def is_outside(row, x):
+    """Whether a place is outside a ROW's stretch."""
+    return is_beyond(row[0], x)
+
+
+def span_behind(cuts, x):
+    """The number of the last of rising cuts, but the very last one, that isn't above a place between them."""
+    if is_beyond(cuts, x):
         raise NoPlace(x)
-    cuts = row[0]
     k = 0
     while k < len(cuts) - 2 and not is_below(x, cuts[k + 1]):
         k += 1
     return k
+
+
+def piece_at(row, x):
+    """The number of the piece behind a place of the stretch, of the last one at the last cut."""
+    return span_behind(row[0], x)
 
 
 def value_at(row, x):

@@ -2,8 +2,8 @@
 
 from gentlebends.errors import NoPaper
 from gentlebends.fractions import NOUGHT
+from gentlebends.fractions import are_fractions
 from gentlebends.fractions import contrary_of
-from gentlebends.fractions import is_fraction
 from gentlebends.fractions import minus_by
 from gentlebends.fractions import over_by
 from gentlebends.fractions import plus_by
@@ -41,9 +41,7 @@ def is_shaped_paper(shaped, thing):
     word, row, binds = thing
     if word != "shaped" or not is_row(row):
         return False
-    if not isinstance(binds, tuple) or len(binds) != how_many_binds(shaped):
-        return False
-    return all(is_fraction(bind) for bind in binds)
+    return are_fractions(binds) and len(binds) == how_many_binds(shaped)
 
 
 def line_slopes(row):

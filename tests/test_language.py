@@ -36,6 +36,12 @@ def trees():
         yield path, ast.parse(path.read_text(encoding="utf-8"))
 
 
+def own_methods():
+    """The names of all methods that the package defines."""
+    classes = [node for path, tree in trees() for node in tree.body if isinstance(node, ast.ClassDef)]
+    return {node.name for some in classes for node in some.body if isinstance(node, ast.FunctionDef)} - {"__init__"}
+
+
 def bound_names(tree):
     """All names that a function binds: parameters, targets, loops."""
     for node in ast.walk(tree):
@@ -144,6 +150,7 @@ class Language(unittest.TestCase):
                         self.assertNotIn(chr(37), node.value, path)
 
     def test_names(self):
+        methods = ALLOWED_METHODS | own_methods()
         for path, tree in trees():
             taken = {alias.name for node in tree.body if isinstance(node, ast.ImportFrom) for alias in node.names}
             taken |= {node.name for node in tree.body if isinstance(node, ast.ClassDef)}
@@ -162,7 +169,17 @@ class Language(unittest.TestCase):
                 if isinstance(node, ast.Name) and hasattr(builtins, node.id):
                     self.assertIn(node.id, ALLOWED_BUILTINS, path)
                 if isinstance(node, ast.Call) and isinstance(node.func, ast.Attribute):
-                    self.assertIn(node.func.attr, ALLOWED_METHODS, path)
+                    self.assertIn(node.func.attr, methods, path)
+
+    def test_own_methods_and_attributes(self):
+        stored = {node.attr for path, tree in trees() for node in ast.walk(tree)
+                  if isinstance(node, ast.Attribute) and isinstance(node.ctx, ast.Store)}
+        read = {node.attr for path, tree in trees() for node in ast.walk(tree)
+                if isinstance(node, ast.Attribute) and isinstance(node.ctx, ast.Load)}
+        built_in = {name for kind in (int, str, bytes, list, tuple, dict, set) for name in dir(kind)} | {"args"}
+        self.assertFalse(stored & own_methods())
+        self.assertFalse((stored | own_methods()) & (built_in - {"__init__"}))
+        self.assertFalse(read - stored - own_methods() - ALLOWED_METHODS)
 
     def test_generators_stand_where_they_may(self):
         for path, tree in trees():
@@ -206,21 +223,38 @@ class Interface(unittest.TestCase):
         "polar": "polar_at:3",
         "shares": "row_of_shares:3 shares_of_row:3",
         "putting": "put_in:4 put_all:4 taken_out:4",
+        "slopes": "slope_shares:3",
+        "sides": "turns_in:1 cage_at:4",
+        "turnchecker": "lets_turns:4",
+        "turnpapers": "turns_paper:4",
+        "moving": "value_share:2 slope_share:2 turned_by:3 bends_dying:2",
+        "heading": "heads_of:1 halved_row:2",
     }
+    KEEPER = "__init__:1 put:2 move:2 out:1 back:0 points_now:0 row_now:0 share_now:1 turned_from:1"
 
     def test_names_and_arguments(self):
         found = {path.stem: tree for path, tree in trees()}
         for module, names in self.NAMES.items():
             functions = {node.name: node for node in found[module].body if isinstance(node, ast.FunctionDef)}
-            for name in names.split():
-                name, many = name.split(":")
-                self.assertIn(name, functions, module)
-                self.assertEqual(len(functions[name].args.args), int(many), name)
-                self.assertEqual(functions[name].args.defaults, [])
+            self.look_at(functions, names, 0)
+
+    def look_at(self, functions, names, more):
+        """Look that functions have these names, and as many parameters as told and so many more."""
+        for name in names.split():
+            name, many = name.split(":")
+            self.assertIn(name, functions)
+            self.assertEqual(len(functions[name].args.args), int(many) + more, name)
+            self.assertEqual(functions[name].args.defaults, [])
+
+    def test_keeper(self):
+        found = {path.stem: tree for path, tree in trees()}
+        classes = {node.name: node for node in found["keeping"].body if isinstance(node, ast.ClassDef)}
+        methods = {node.name: node for node in classes["Keeper"].body if isinstance(node, ast.FunctionDef)}
+        self.look_at(methods, self.KEEPER, 1)
 
     def test_checkers_neither_solve_nor_seek(self):
         found = {path.stem: tree for path, tree in trees()}
-        for checker in ("leastchecker", "shapechecker"):
+        for checker in ("leastchecker", "shapechecker", "turnchecker"):
             seen = set()
             left = [checker]
             while left:

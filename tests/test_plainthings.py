@@ -1,4 +1,4 @@
-"""Any plain thing: what is asked of things by chance, against a second telling of the kinds of [3], [25], [47] to [50]."""
+"""Any plain thing: what is asked of things by chance, against a second telling of [3], [25], [47] to [50], [59]."""
 
 import math
 import random
@@ -14,10 +14,15 @@ from gentlebends.rows import is_row
 from gentlebends.settling import settled_by
 from gentlebends.shapechecker import lets_shaped
 from gentlebends.shaping import ask_shaped
-from helpers import ODD_THINGS, Asking, fraction, paths_in, poly_value, q, replaced, row, task, thing_at, trimmed
-from knothelpers import own_fault as own_knots_fault, some_knots
+from gentlebends.shares import row_of_shares
+from gentlebends.turnchecker import lets_turns
+from helpers import (
+    ODD_THINGS, Asking, fraction, paths_in, poly_value, q, replaced, row, row_value, spread, task, thing_at, trimmed,
+)
+from knothelpers import own_fault as own_knots_fault, own_stretch, own_value, places_in, some_knots, some_shares
 from shapehelpers import own_papers
 from test_shaping import SHAPES, shaped
+from test_sides import own_turns
 
 
 def number(thing):
@@ -225,6 +230,42 @@ class PlainThings(Asking, unittest.TestCase):
             else:
                 self.refuses(NoKnots, {"word": due[0], "number": due[1]}, ask_knots, degree, thing)
         self.assertEqual(words, {None, "shape", "falls", "ends", "often"})
+
+    def test_turns_papers(self):
+        chance = random.Random(146)
+        words = set()
+        for time in range(2500):
+            degree = chance.choice((1, 2, 3))
+            knots = some_knots(chance, degree, 2 * degree + chance.randint(2, 4))
+            paper = ("turns", knots, some_shares(chance, degree, knots, 1))
+            row_of = row_of_shares(degree, *paper[1:])
+            thing = changed(chance, paper)
+            many = chance.randint(0, 3)
+            due = self.own_turns_word(degree, row_of, many, thing)
+            words.add(due)
+            if due is None:
+                self.tells(True, lets_turns, degree, row_of, many, thing)
+            else:
+                self.refuses(NoPaper, {"word": due, "number": -1}, lets_turns, degree, row_of, many, thing)
+        self.assertEqual(words, {None, "shape", "row", "turns"})
+
+    def own_turns_word(self, degree, some, many, thing):
+        """None or the word of [59]."""
+        if type(thing) is not tuple or len(thing) != 3 or type(thing[0]) is not str or thing[0] != "turns":
+            return "shape"
+        word, knots, shares = thing
+        for part in (knots, shares):
+            if type(part) is not tuple or not all(own_fraction(one) for one in part):
+                return "shape"
+        is_short = len(knots) < 2 * degree + 2 or len(shares) != len(knots) - 1 - degree
+        if is_short or own_knots_fault(degree, knots) is not None:
+            return "shape"
+        if own_stretch(degree, knots) != (q(some[0][0]), q(some[0][-1])):
+            return "row"
+        places = sorted({*places_in(degree, knots), *[x for cut in zip(some[0], some[0][1:]) for x in spread(*cut, 5)]})
+        if any(row_value(some, x) != own_value(degree, knots, shares, x) for x in places):
+            return "row"
+        return "turns" if own_turns([q(share) for share in shares]) > many else None
 
     def test_shapeds(self):
         chance = random.Random(143)
