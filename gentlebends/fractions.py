@@ -121,6 +121,11 @@ def is_rising(some):
     return all(is_below(some[k], some[k + 1]) for k in range(len(some) - 1))
 
 
+def lengths_between(places):
+    """How far each of some FRACTIONs is from the next one."""
+    return [minus_by(places[k + 1], places[k]) for k in range(len(places) - 1)]
+
+
 def least_of(some):
     """The least of a list of one or more FRACTIONs."""
     least = some[0]

@@ -18,12 +18,17 @@ def is_poly(thing):
     return len(thing) == 0 or thing[-1] != NOUGHT
 
 
+def without_last(things, nought):
+    """The tuple of a list of things, those at its end left out that are nought."""
+    many = len(things)
+    while many > 0 and things[many - 1] == nought:
+        many -= 1
+    return tuple(things[:many])
+
+
 def poly_of(numbers):
     """The POLY of a list of FRACTIONs by rising power."""
-    many = len(numbers)
-    while many > 0 and numbers[many - 1] == NOUGHT:
-        many -= 1
-    return tuple(numbers[:many])
+    return without_last(numbers, NOUGHT)
 
 
 def number_at(poly, power):

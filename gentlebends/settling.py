@@ -2,6 +2,7 @@
 
 from gentlebends.asking import places_of
 from gentlebends.fractions import NOUGHT
+from gentlebends.fractions import lengths_between
 from gentlebends.fractions import minus_by
 from gentlebends.fractions import over_by
 from gentlebends.fractions import plus_by
@@ -33,8 +34,7 @@ def told_numbers(task, tight):
 
 def lengths_of(task):
     """How long the pieces between a TASK's PLACES are."""
-    places = places_of(task)
-    return [minus_by(places[k + 1], places[k]) for k in range(len(places) - 1)]
+    return lengths_between(places_of(task))
 
 
 def piece_pulls(sort, d):

@@ -2,6 +2,7 @@
 
 from gentlebends.fractions import NOUGHT
 from gentlebends.fractions import contrary_of
+from gentlebends.fractions import lengths_between
 from gentlebends.fractions import minus_by
 from gentlebends.fractions import over_by
 from gentlebends.fractions import plus_by
@@ -13,11 +14,6 @@ from gentlebends.shapechecker import is_sloped
 from gentlebends.shapechecker import shaped_places
 from gentlebends.shapechecker import shaped_pulls
 from gentlebends.shaping import CONTRARY_SHAPES
-
-
-def lengths_between(places):
-    """How far each place is from the next one."""
-    return [minus_by(places[k + 1], places[k]) for k in range(len(places) - 1)]
 
 
 def form_sum(forms, factors):

@@ -229,6 +229,13 @@ class Interface(unittest.TestCase):
         "turnpapers": "turns_paper:4",
         "moving": "value_share:2 slope_share:2 turned_by:3 bends_dying:2",
         "heading": "heads_of:1 halved_row:2",
+        "topping": "highest_of:2 below_paper:3",
+        "topchecker": "lets_below:3",
+        "meetchecker": "lets_meets:3",
+        "meeting": "meets_paper:3",
+        "leveling": "levels_of:1 slope_row:1",
+        "sheeting": "is_sheet:1 height_at:3 row_at_x:2 row_at_y:2 sheet_turned:1 under_sheet:1",
+        "crossing": "sheet_through:4 sheet_crossed:4 unit_sheet:5",
     }
     KEEPER = "__init__:1 put:2 move:2 out:1 back:0 points_now:0 row_now:0 share_now:1 turned_from:1"
 
@@ -254,7 +261,7 @@ class Interface(unittest.TestCase):
 
     def test_checkers_neither_solve_nor_seek(self):
         found = {path.stem: tree for path, tree in trees()}
-        for checker in ("leastchecker", "shapechecker", "turnchecker"):
+        for checker in ("leastchecker", "shapechecker", "turnchecker", "topchecker", "meetchecker"):
             seen = set()
             left = [checker]
             while left:

@@ -1,26 +1,35 @@
-"""Any plain thing: what is asked of things by chance, against a second telling of [3], [25], [47] to [50], [59]."""
+"""Any plain thing: what is asked of things by chance, against a second telling of what the document says of them."""
 
 import math
 import random
 import unittest
 
 from gentlebends.asking import ask_task
-from gentlebends.errors import NoKnots, NoPaper, NoTask
+from gentlebends.crossing import sheet_crossed, sheet_through
+from gentlebends.errors import NoKnots, NoPaper, NoSheet, NoTask
 from gentlebends.fractions import is_fraction
 from gentlebends.knots import ask_knots
 from gentlebends.leastchecker import lets_least
+from gentlebends.meetchecker import lets_meets
 from gentlebends.polys import is_poly
 from gentlebends.rows import is_row
 from gentlebends.settling import settled_by
 from gentlebends.shapechecker import lets_shaped
 from gentlebends.shaping import ask_shaped
 from gentlebends.shares import row_of_shares
+from gentlebends.sheeting import is_sheet
+from gentlebends.topchecker import lets_below
 from gentlebends.turnchecker import lets_turns
 from helpers import (
-    ODD_THINGS, Asking, fraction, paths_in, poly_value, q, replaced, row, row_value, spread, task, thing_at, trimmed,
+    ODD_THINGS, Asking, f, fraction, paths_in, poly_value, q, replaced, rising, row, row_value, spread, task, thing_at,
+    trimmed,
 )
 from knothelpers import own_fault as own_knots_fault, own_stretch, own_value, places_in, some_knots, some_shares
+from rowhelpers import times_met, with_own_cuts
 from shapehelpers import own_papers
+from sheethelpers import is_own_joined, some_sheet, some_values
+from test_heading import all_own_heads
+from test_meeting import unclear
 from test_shaping import SHAPES, shaped
 from test_sides import own_turns
 
@@ -266,6 +275,147 @@ class PlainThings(Asking, unittest.TestCase):
         if any(row_value(some, x) != own_value(degree, knots, shares, x) for x in places):
             return "row"
         return "turns" if own_turns([q(share) for share in shares]) > many else None
+
+    def paper_cuts_are_right(self, some, thing):
+        """Whether a thing is a tuple of FRACTIONs, rising, between a ROW's ends."""
+        if type(thing) is not tuple or not all(own_fraction(one) for one in thing):
+            return False
+        places = [q(one) for one in (some[0][0], *thing, some[0][-1])]
+        return sorted(set(places)) == places
+
+    def some_cuts(self, chance, some):
+        """A few rising FRACTIONs between a ROW's ends."""
+        return tuple(f(x) for x in sorted(chance.sample(spread(some[0][0], some[0][-1], 12)[1:-1], chance.randint(0, 3))))
+
+    def test_papers_of_nowhere_above(self):
+        chance = random.Random(147)
+        words = set()
+        for time in range(1500):
+            some = row(chance, chance.randint(1, 3), 0, 1)
+            cuts = self.some_cuts(chance, some)
+            paper = ("above", chance.choice(some[0])) if time % 3 == 0 else ("below", cuts)
+            thing = changed(chance, paper) if chance.random() < 0.7 else paper
+            heads = [head for four in all_own_heads(some) for head in four]
+            bound = chance.choice(heads)
+            due = self.own_below_fault(some, bound, thing)
+            words.add(due and due[0])
+            if due is None:
+                self.tells(True, lets_below, some, f(bound), thing)
+            else:
+                self.refuses(NoPaper, {"word": due[0], "number": due[1]}, lets_below, some, f(bound), thing)
+        self.assertEqual(words, {None, "shape", "piece", "place"})
+
+    def own_below_fault(self, some, bound, thing):
+        """None or the pair of [72]."""
+        if type(thing) is not tuple or len(thing) != 2 or type(thing[0]) is not str or thing[0] not in ("below", "above"):
+            return ("shape", -1)
+        word, told = thing
+        if word == "above":
+            if not own_fraction(told) or not q(some[0][0]) <= q(told) <= q(some[0][-1]):
+                return ("shape", -1)
+            return None if row_value(some, q(told)) > bound else ("place", -1)
+        if not self.paper_cuts_are_right(some, told):
+            return ("shape", -1)
+        above = [k for k, four in enumerate(all_own_heads(with_own_cuts(some, told))) if max(four) > bound]
+        return ("piece", above[0]) if above else None
+
+    def test_papers_of_heights_met(self):
+        chance = random.Random(148)
+        words = set()
+        for time in range(1500):
+            some = row(chance, chance.randint(1, 3), 0, 1)
+            height = chance.choice([head for four in all_own_heads(some) for head in four])
+            paper = ("meets", self.some_cuts(chance, some), times_met(some, height) or 0)
+            thing = changed(chance, paper) if chance.random() < 0.7 else paper
+            due = self.own_meets_fault(some, height, thing)
+            words.add(due and due[0])
+            if due is None:
+                self.tells(True, lets_meets, some, f(height), thing)
+            else:
+                self.refuses(NoPaper, {"word": due[0], "number": due[1]}, lets_meets, some, f(height), thing)
+        self.assertEqual(words, {None, "shape", "piece", "many"})
+
+    def own_meets_fault(self, some, height, thing):
+        """None or the pair of [74]."""
+        if type(thing) is not tuple or len(thing) != 3 or type(thing[0]) is not str or thing[0] != "meets":
+            return ("shape", -1)
+        word, cuts, many = thing
+        if not self.paper_cuts_are_right(some, cuts) or not number(many) or many < 0:
+            return ("shape", -1)
+        wrong = unclear(with_own_cuts(some, cuts), height)
+        if wrong:
+            return ("piece", wrong[0])
+        due = times_met(some, height)
+        return None if many == due else ("many", due)
+
+    def test_sheets(self):
+        chance = random.Random(149)
+        seen = {True: 0, False: 0}
+        for time in range(1000):
+            thing = some_sheet(chance, chance.randint(2, 3), chance.randint(2, 3), 1)
+            for step in range(chance.randint(0, 2)):
+                thing = changed(chance, thing)
+            due = self.is_own_sheet(thing)
+            seen[due] += 1
+            self.tells(due, is_sheet, thing)
+        self.assertGreater(min(seen.values()), 250)
+
+    def is_own_sheet(self, thing):
+        if type(thing) is not tuple or len(thing) != 3:
+            return False
+        for cuts in thing[:2]:
+            if type(cuts) is not tuple or len(cuts) < 2 or not all(own_fraction(cut) for cut in cuts):
+                return False
+            if sorted({q(cut) for cut in cuts}) != [q(cut) for cut in cuts]:
+                return False
+        xcuts, ycuts, patches = thing
+        if type(patches) is not tuple or len(patches) != len(xcuts) - 1:
+            return False
+        for column in patches:
+            if type(column) is not tuple or len(column) != len(ycuts) - 1:
+                return False
+            for patch in column:
+                if type(patch) is not tuple or len(patch) > 4 or not all(own_poly(one) for one in patch):
+                    return False
+                if patch and patch[-1] == ():
+                    return False
+        return is_own_joined(thing)
+
+    def test_values_of_sheets(self):
+        chance = random.Random(150)
+        words = set()
+        for time in range(1000):
+            xs, ys = rising(chance, chance.randint(2, 3), 1), rising(chance, chance.randint(2, 3), 1)
+            thing = (chance.choice((1, 3)), xs, ys, some_values(chance, xs, ys, 1))
+            for step in range(chance.randint(0, 2)):
+                thing = changed(chance, thing)
+            if type(thing) is not tuple or len(thing) != 4:
+                continue
+            due = self.own_values_fault(*thing)
+            words.add(due and due[0])
+            for ask in (sheet_through, sheet_crossed):
+                if due is None:
+                    self.assertTrue(self.is_own_sheet(ask(*thing)))
+                else:
+                    self.refuses(NoSheet, {"word": due[0], "number": due[1]}, ask, *thing)
+        self.assertEqual(words, {None, "sort", "x", "y", "values"})
+
+    def own_values_fault(self, sort, xs, ys, values):
+        """None or the pair of [79]."""
+        if not number(sort) or sort not in (1, 3):
+            return ("sort", -1)
+        for word, some in (("x", xs), ("y", ys)):
+            if type(some) is not tuple or not 2 <= len(some) <= 4 or not all(own_fraction(one) for one in some):
+                return (word, -1)
+            for k in range(1, len(some)):
+                if q(some[k]) <= q(some[k - 1]):
+                    return (word, k)
+        if type(values) is not tuple or len(values) != len(xs):
+            return ("values", -1)
+        for i, some in enumerate(values):
+            if type(some) is not tuple or len(some) != len(ys) or not all(own_fraction(one) for one in some):
+                return ("values", i)
+        return None
 
     def test_shapeds(self):
         chance = random.Random(143)
