@@ -26,7 +26,7 @@ def heads_of(row):
 def cut_values(heads):
     """The values at all cuts of a ROW, by the HEADS of its pieces."""
     # A piece's first HEAD is its value at its begin, the last one that at its end.
-    return [*[four[0] for four in heads], heads[-1][3]]
+    return [four[0] for four in heads] + [heads[-1][3]]
 
 
 def halved_cuts(cuts):
